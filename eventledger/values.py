@@ -127,4 +127,9 @@ def _behind_plain_signs(text, at):
 
 def _is_plain(sign):
     """Whether the sign (none, at the end) stands in the writing of a text as it is."""
-    return " " <= sign <= "~" and sign != '"' and ord(sign) != PERCENT
+    return is_sign(sign) and sign != '"'
+
+
+def is_sign(sign):
+    """Whether the sign is one of those that texts have."""
+    return " " <= sign <= "~" and ord(sign) != PERCENT

@@ -81,9 +81,84 @@ class LanguageTest(unittest.TestCase):
         for path, node in nodes(ast.Constant):
             self.assertNotIsInstance(node.value, (float, complex), (path, node.lineno))
 
+    def test_module_level(self):
+        for path in FILES:
+            bound = []
+            for node in tree_of(path).body:
+                if isinstance(node, ast.ImportFrom):
+                    bound.extend(name.name for name in node.names)
+                elif isinstance(node, (ast.FunctionDef, ast.ClassDef)):
+                    bound.append(node.name)
+                elif isinstance(node, ast.Assign):
+                    self.assertEqual([type(target) for target in node.targets], [ast.Name], (path, node.lineno))
+                    bound.append(node.targets[0].id)
+                else:
+                    self.assertIsInstance(getattr(node, "value", None), ast.Constant, (path, node.lineno))
+            self.assertEqual(sorted(bound), sorted(set(bound)), path)
+
+    def test_local_names_are_no_imports_and_no_classes(self):
+        for path in FILES:
+            tree = tree_of(path)
+            taken = {name.name for node in ast.walk(tree) if isinstance(node, ast.ImportFrom) for name in node.names}
+            taken |= {node.name for node in tree.body if isinstance(node, ast.ClassDef)}
+            for node in ast.walk(tree):
+                if isinstance(node, ast.arg):
+                    self.assertNotIn(node.arg, taken, path)
+                if isinstance(node, ast.Name) and isinstance(node.ctx, ast.Store):
+                    self.assertNotIn(node.id, taken, (path, node.lineno))
+
+    def test_imports_name_the_file_that_defines_and_go_one_way(self):
+        behind = {}
+        for path in FILES:
+            imports = [node for node in tree_of(path).body if isinstance(node, ast.ImportFrom)]
+            own = [node for node in imports if node.module.startswith("eventledger.")]
+            behind[path.stem] = {node.module.partition(".")[2] for node in own}
+            for node in own:
+                defined = names_of(FOLDER / f"{node.module.partition('.')[2]}.py")
+                for name in node.names:
+                    self.assertIn(name.name, defined, path)
+        while behind:
+            ready = {name for name, needed in behind.items() if not needed & set(behind)}
+            self.assertTrue(ready, behind)
+            behind = {name: needed for name, needed in behind.items() if name not in ready}
+
+    def test_is_stands_beside_none_true_and_false(self):
+        for path, node in nodes(ast.Compare):
+            for operator, right in zip(node.ops, node.comparators):
+                if isinstance(operator, (ast.Is, ast.IsNot)):
+                    self.assertIsInstance(right, ast.Constant, (path, node.lineno))
+
+    def test_names_are_plain(self):
+        for path in FILES:
+            for node in ast.walk(tree_of(path)):
+                for field in ("id", "arg", "attr", "name"):
+                    name = getattr(node, field, None)
+                    if isinstance(name, str) and name not in ("__init__", "__eq__", "__len__", "__repr__", "__str__"):
+                        self.assertRegex(name, "^_?[A-Za-z][A-Za-z0-9_]*$|^_$", (path, name))
+                        self.assertNotRegex(name, "^_(wall|pe_|dcw_|enum_|cm_|twin_re_|lay_|law_|stub_|sre)", path)
+
+    def test_sets_are_not_iterated(self):
+        for path, node in nodes(ast.For, ast.comprehension):
+            self.assertNotIsInstance(node.iter, (ast.Set, ast.SetComp), path)
+
     def assert_free(self, path, name):
         self.assertFalse(hasattr(builtins, name), (path, name))
         self.assertNotIn(name, BARRED, path)
+
+
+def tree_of(path):
+    return ast.parse(path.read_text(encoding="utf-8"))
+
+
+def names_of(path):
+    """The names that the file itself defines."""
+    names = set()
+    for node in tree_of(path).body:
+        if isinstance(node, (ast.FunctionDef, ast.ClassDef)):
+            names.add(node.name)
+        elif isinstance(node, ast.Assign):
+            names.add(node.targets[0].id)
+    return names
 
 
 def nodes(*sorts):
@@ -91,7 +166,7 @@ def nodes(*sorts):
     return [
         (path.name, node)
         for path in FILES
-        for node in ast.walk(ast.parse(path.read_text(encoding="utf-8")))
+        for node in ast.walk(tree_of(path))
         if isinstance(node, sorts)
     ]
 
