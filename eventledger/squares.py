@@ -20,6 +20,21 @@ def tests_of(form, steps):
             if wider not in seen:
                 seen[wider] = True
                 waiting.append(wider)
+    return _as_tests(form, found)
+
+
+def tests_together(form, many):
+    """Several tests put into one, each a tuple of fields with their values."""
+    found = {field: {} for field, _ in form}
+    for tests in many:
+        for field, values in tests:
+            for value in values:
+                found[field][value] = True
+    return _as_tests(form, found)
+
+
+def _as_tests(form, found):
+    """The tests of the values that were found, dicts of True, of each field."""
     return tuple([(field, tuple(sorted(found[field]))) for field, _ in form if found[field]])
 
 

@@ -188,6 +188,18 @@ LEADS = {
 }
 
 
+def kept_steps(steps):
+    """A copy, tuples throughout, of steps that fit a form."""
+    return tuple([_kept_step(step) for step in steps])
+
+
+def _kept_step(step):
+    if step[0] != "case":
+        return step
+    word, field, value, yes, no = step
+    return (word, field, value, kept_steps(yes), kept_steps(no))
+
+
 def done(form, steps, values):
     """The values that the steps, which fit the form, make of the values, in the order of the form behind them."""
     held = {field: value for (field, _), value in zip(form, values)}
