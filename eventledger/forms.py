@@ -1,6 +1,6 @@
 """Forms of events, and which values fit them."""
 
-from eventledger.values import is_sign
+from eventledger.values import is_text
 
 MOST_FIELDS = 6
 LONGEST_NAME = 12
@@ -40,7 +40,7 @@ def is_of_sort(value, sort):
     if sort == "word":
         return _is_small(value, LONGEST_WORD)
     if sort == "text":
-        return isinstance(value, str) and len(value) <= LONGEST_TEXT and all([is_sign(sign) for sign in value])
+        return is_text(value) and len(value) <= LONGEST_TEXT
     return is_whole(value)
 
 

@@ -19,10 +19,7 @@ class Kinds:
 
     def form(self, kind, form):
         """Let in a form as the next version of its kind, which is told."""
-        if not is_name(kind):
-            raise BadName()
-        if not is_form(form):
-            raise Strange()
+        self.need_form(kind, form)
         version = self.versions(kind) + 1
         if version == 1:
             self._forms[kind] = []
@@ -32,8 +29,20 @@ class Kinds:
         self._ways[kind][version] = {version: ()}
         return version
 
+    def need_form(self, kind, form):
+        """Refuse what is no name of a kind, or no form."""
+        if not is_name(kind):
+            raise BadName()
+        if not is_form(form):
+            raise Strange()
+
     def upcast(self, kind, start, end, steps):
         """Let in an upcast from a version of the kind to a later one."""
+        self.need_upcast(kind, start, end, steps)
+        self.add_upcast(kind, start, end, kept_steps(steps))
+
+    def need_upcast(self, kind, start, end, steps):
+        """Refuse what is no upcast, or one by which two ways part."""
         early = self.form_of(kind, start)
         late = self.form_of(kind, end)
         if end <= start:
@@ -42,23 +51,50 @@ class Kinds:
             raise Twice()
         if dict(form_behind(early, steps)) != dict(late):
             raise WrongEnd()
-        kept = kept_steps(steps)
-        self._need_alike(kind, start, end, kept)
+        self._need_alike(kind, start, end, steps)
+
+    def add_upcast(self, kind, start, end, steps):
+        """Let in an upcast, kept steps, of which it is known that it isn't refused."""
         upcasts = self._upcasts[kind]
-        upcasts[(start, end)] = kept
+        upcasts[(start, end)] = steps
         self._ways[kind] = {version: _ways_from(upcasts, version) for version in self._ways[kind]}
 
     def _need_alike(self, kind, start, end, steps):
         """Refuse with Unlike an upcast by which two ways part."""
+        pairs = self._pairs_led(kind, start, end)
+        # Where the ways between two versions agree, so do those that lead on from both, as the elder
+        # ways are all alike; so all pairs are looked at only where one is to be told.
+        if all([self._witness(kind, start, end, steps, pair) is None for pair in self._inmost(kind, pairs)]):
+            return
+        for version, late in pairs:
+            witness = self._witness(kind, start, end, steps, (version, late))
+            if witness is not None:
+                raise Unlike(version, late, witness)
+
+    def _pairs_led(self, kind, start, end):
+        """The pairs of versions, rising, that an elder way joins, and a new one by an upcast from start to end."""
         ways = self._ways[kind]
-        for version in sorted(ways):
-            for late in sorted(ways[end]):
-                # All ways by the new upcast agree where the elder ones do, so one is looked at.
-                if start in ways[version] and late in ways[version]:
-                    by_it = (*ways[version][start], *steps, *ways[end][late])
-                    word, told = agreement(self.form_of(kind, version), ways[version][late], by_it)
-                    if word == "differ":
-                        raise Unlike(version, late, told)
+        return [
+            (version, late) for version in sorted(ways) for late in sorted(ways[end])
+            if start in ways[version] and late in ways[version]]
+
+    def _inmost(self, kind, pairs):
+        """Those of the pairs within which there is no other one, by ways between them."""
+        ways = self._ways[kind]
+        return [
+            (version, late) for version, late in pairs
+            if not any([
+                (inner, inner_late) != (version, late) and inner in ways[version] and late in ways[inner_late]
+                for inner, inner_late in pairs])]
+
+    def _witness(self, kind, start, end, steps, pair):
+        """Values by which the elder way between the pair and that by the new upcast part, None where they agree."""
+        version, late = pair
+        ways = self._ways[kind]
+        # All ways by the new upcast agree where the elder ones do, so one is looked at.
+        by_it = (*ways[version][start], *steps, *ways[end][late])
+        word, told = agreement(self.form_of(kind, version), ways[version][late], by_it)
+        return told if word == "differ" else None
 
     def versions(self, kind):
         """How many versions the kind has, 0 of others."""

@@ -3,6 +3,8 @@
 from eventledger.errors import NoValue
 
 MOST_FIGURES = 40
+# The first number of more figures than that.
+BOUND = 10 ** 40
 # A number, because the sign itself must not stand in a string of the package (L27).
 PERCENT = 37
 SIGNS = {"-": None, "+": True, "!": False}
@@ -133,3 +135,25 @@ def _is_plain(sign):
 def is_sign(sign):
     """Whether the sign is one of those that texts have."""
     return " " <= sign <= "~" and ord(sign) != PERCENT
+
+
+def is_text(thing):
+    """Whether it is a text; told of anything."""
+    return isinstance(thing, str) and all([is_sign(sign) for sign in thing])
+
+
+def is_value(thing):
+    """Whether it is a value; told of anything."""
+    # A list of what is still to be looked at, as in shown.
+    waiting = [thing]
+    while waiting:
+        part = waiting.pop()
+        if isinstance(part, tuple):
+            waiting.extend(part)
+        elif isinstance(part, int):
+            # True and False have one figure, too.
+            if abs(part) >= BOUND:
+                return False
+        elif part is not None and not is_text(part):
+            return False
+    return True
