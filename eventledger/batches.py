@@ -2,7 +2,8 @@
 
 from eventledger.errors import BadName, Conflict, NoWay, Stale, Strange, Unnumbered
 from eventledger.forms import fits, is_name
-from eventledger.renewing import MOST_EVENTS
+
+MOST_EVENTS = 20
 
 
 def place_told_ahead(state, events, teller, number):

@@ -57,7 +57,9 @@ class Kinds:
         """Let in an upcast, kept steps, of which it is known that it isn't refused."""
         upcasts = self._upcasts[kind]
         upcasts[(start, end)] = steps
-        self._ways[kind] = {version: _ways_from(upcasts, version) for version in self._ways[kind]}
+        ways = self._ways[kind]
+        self._ways[kind] = {
+            version: _ways_from(upcasts, version) if start in ways[version] else ways[version] for version in ways}
 
     def _need_alike(self, kind, start, end, steps):
         """Refuse with Unlike an upcast by which two ways part."""
@@ -142,8 +144,7 @@ def _ways_from(upcasts, start):
     ways = {start: ()}
     # Upcasts lead to later versions, so no way to a version is left to find when its own go on.
     for early, late in sorted(upcasts):
-        if early in ways:
-            steps = (*ways[early], *upcasts[(early, late)])
-            if late not in ways or len(steps) < len(ways[late]):
-                ways[late] = steps
+        steps = upcasts[(early, late)]
+        if early in ways and (late not in ways or len(ways[early]) + len(steps) < len(ways[late])):
+            ways[late] = (*ways[early], *steps)
     return ways

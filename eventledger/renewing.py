@@ -1,9 +1,8 @@
 """Letting go: the entries that tell all that can still be asked."""
 
+from eventledger.batches import MOST_EVENTS
 from eventledger.errors import Needed
 from eventledger.views import rows_of, table_of
-
-MOST_EVENTS = 20
 
 
 def need_not_needed(state, position):
