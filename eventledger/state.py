@@ -68,7 +68,7 @@ class State:
     def readers(self):
         """(name, kind, version) for each version that a projection, or a rule not ended, reads, names rising."""
         told = []
-        for name in sorted(self.views):
+        for name in self.views:
             told.extend([(name, kind, version) for kind, version in self.views[name].definition[0]])
         for name in self.names_of_duties():
             told.append((name, *self.duties[name].definition[:2]))
@@ -132,10 +132,11 @@ def _take_event(state, entry):
 
 def _take_projection(state, entry):
     _, name, definition = entry
-    if name in state.views:
-        state.views[name].definition = definition
-    else:
+    view = state.views.get(name)
+    if view is None:
         state.views[name] = View(definition)
+    else:
+        view.definition = definition
 
 
 def _take_anew(state, entry):
@@ -145,7 +146,8 @@ def _take_anew(state, entry):
 
 def _take_snapshot(state, entry):
     _, name, position, rows = entry
-    state.views[name].shots[position] = {key: numbers for key, numbers in rows}
+    view = state.views[name]
+    view.shots[position] = {key: numbers for key, numbers in rows}
 
 
 def _take_rule(state, entry):
@@ -155,7 +157,8 @@ def _take_rule(state, entry):
 
 def _take_intent(state, entry):
     _, name, position, payload = entry
-    state.duties[name].pending = (position, payload)
+    duty = state.duties[name]
+    duty.pending = (position, payload)
 
 
 def _take_sent(state, entry):
@@ -166,7 +169,8 @@ def _take_sent(state, entry):
 
 
 def _take_end(state, entry):
-    state.duties[entry[1]].has_ended = True
+    duty = state.duties[entry[1]]
+    duty.has_ended = True
 
 
 def _take_new(state, entry):
