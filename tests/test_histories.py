@@ -80,10 +80,9 @@ class Two:
     def let_go(self):
         position = self.chance.randint(0, self.plain.length())
         found = answer(self.ledger.let_go, position)
-        due = [name for name in self.plain.rules() if self.plain.due(name)[:1] and self.plain.due(name)[0][0] < position]
+        due = [(name, at) for name in self.plain.rules() for at, _ in self.plain.due(name) if at < position]
         if due and position > self.ledger.kept():
-            at = self.plain.due(due[0])[0][0]
-            self.test.assertEqual(found, ("refused", "Needed", {"name": due[0], "position": at}))
+            self.test.assertEqual(found, ("refused", "Needed", {"name": due[0][0], "position": due[0][1]}))
         else:
             self.test.assertEqual(found, ("told", None))
 
@@ -126,8 +125,8 @@ class HistoriesTest(unittest.TestCase):
             two.do(word, *arguments)
         numbers = {"ann": 0, "bob": 0}
         for at in range(24):
-            word = chance.choice(("tell", "tell", "tell", "project", "rule", "snapshot", "redefine", "send", "send", "end",
-                                  "let_go", "form"))
+            word = chance.choice(("tell", "tell", "tell", "project", "rule", "snapshot", "redefine", "send", "send",
+                                  "end", "let_go", "form"))
             name = chance.choice(NAMES)
             if word == "tell" and two.plain.length() < 24:
                 self.tells(two, chance, numbers)
